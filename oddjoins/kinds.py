@@ -1,0 +1,38 @@
+"""What all modules ask of plain things: their kinds, and which numbers stand in a row an odd number of times."""
+
+
+def is_whole(thing):
+    # Python counts True and False among the ints; here they are no numbers.
+    return isinstance(thing, int) and not isinstance(thing, bool)
+
+
+def is_whole_from(thing, least):
+    return is_whole(thing) and thing >= least
+
+
+def is_tuple_of(thing, count):
+    return isinstance(thing, tuple) and len(thing) == count
+
+
+def is_rising(thing):
+    """Whether thing is a tuple of whole numbers from 0 on, each above the one ahead of it."""
+    if not isinstance(thing, tuple):
+        return False
+    ahead = -1
+    for number in thing:
+        if not is_whole(number) or number <= ahead:
+            return False
+        ahead = number
+    return True
+
+
+def is_rising_below(thing, bound):
+    return is_rising(thing) and (len(thing) == 0 or thing[-1] < bound)
+
+
+def odd_ones(row):
+    """The numbers that stand in row an odd number of times, rising."""
+    odd = {}
+    for number in row:
+        odd[number] = not odd.get(number, False)
+    return tuple(sorted([number for number in odd if odd[number]]))

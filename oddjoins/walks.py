@@ -1,0 +1,52 @@
+"""Walks along ties, and rings."""
+
+from oddjoins.errors import NoWalk
+from oddjoins.kinds import is_tuple_of, is_whole, odd_ones
+
+
+def other_end(tie, place):
+    return tie[1] if tie[0] == place else tie[0]
+
+
+def is_step(web, place, thing):
+    """Whether thing is the number of a tie that ends at place."""
+    if not is_whole(thing) or thing < 0 or thing >= len(web[1]):
+        return False
+    return place in web[1][thing][:2]
+
+
+def places_walked(web, start, row):
+    """All places where one is on the walk, one behind the other, start first; refused as walked refuses."""
+    if not isinstance(row, tuple):
+        raise NoWalk(-1)
+    places = [start]
+    for index, thing in enumerate(row):
+        if not is_step(web, places[-1], thing):
+            raise NoWalk(index)
+        places.append(other_end(web[1][thing], places[-1]))
+    return places
+
+
+def walked(web, start, row):
+    return places_walked(web, start, row)[-1]
+
+
+def is_ring(web, thing):
+    if not is_tuple_of(thing, 2) or not is_whole(thing[0]) or thing[0] < 0 or thing[0] >= web[0]:
+        return False
+    try:
+        places = places_walked(web, thing[0], thing[1])
+    except NoWalk:
+        return False
+    return places[-1] == places[0] and is_simple(places, thing[1])
+
+
+def is_simple(places, row):
+    """Whether a closed walk by row has two ties or more, none twice, and no place twice but the start at its end."""
+    # The start stands in the places behind the first once, at the end, unless one comes through it between.
+    behind = places[1:]
+    return len(row) >= 2 and len(set(row)) == len(row) and len(set(behind)) == len(behind)
+
+
+def odd_times(row):
+    return odd_ones(row)
