@@ -1,56 +1,50 @@
 """The refusals. Each keeps the very things that it is made of and looks at none of them."""
 
 
+# Any refusal of the program.
 class JoinError(ValueError):
-    """Any refusal of the program."""
+    pass
 
 
+# A thing is not the paper that it is asked to be.
 class NoPaper(JoinError):
-    """A thing is not the paper that it is asked to be."""
-
     def __init__(self, word, number):
         self.word = word
         self.number = number
 
 
+# A row can't be gone.
 class NoWalk(JoinError):
-    """A row can't be gone."""
-
     def __init__(self, number):
         self.number = number
 
 
+# Lines don't write a web.
 class NoText(JoinError):
-    """Lines don't write a web."""
-
     def __init__(self, row, word):
         self.row = row
         self.word = word
 
 
+# A thing is not the turns of a web.
 class NoTurns(JoinError):
-    """A thing is not the turns of a web."""
-
     def __init__(self, place):
         self.place = place
 
 
+# A number is not one of those that there are.
 class NoTie(JoinError):
-    """A number is not one of those that there are."""
-
     def __init__(self, number):
         self.number = number
 
 
+# There would be more than are told.
 class TooMany(JoinError):
-    """There would be more than are told."""
-
     def __init__(self, word):
         self.word = word
 
 
+# A row is none that a desk knows.
 class NoLine(JoinError):
-    """A row is none that a desk knows."""
-
     def __init__(self, line):
         self.line = line

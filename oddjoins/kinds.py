@@ -14,8 +14,8 @@ def is_tuple_of(thing, count):
     return isinstance(thing, tuple) and len(thing) == count
 
 
+# Whether thing is a tuple of whole numbers from 0 on, each above the one ahead of it.
 def is_rising(thing):
-    """Whether thing is a tuple of whole numbers from 0 on, each above the one ahead of it."""
     if not isinstance(thing, tuple):
         return False
     ahead = -1
@@ -30,8 +30,8 @@ def is_rising_below(thing, bound):
     return is_rising(thing) and (len(thing) == 0 or thing[-1] < bound)
 
 
+# The numbers that stand in row an odd number of times, rising.
 def odd_ones(row):
-    """The numbers that stand in row an odd number of times, rising."""
     odd = {}
     for number in row:
         odd[number] = not odd.get(number, False)

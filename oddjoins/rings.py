@@ -18,8 +18,8 @@ def rings_of(web, even):
     return tuple(rings)
 
 
+# A ring of some of the ties left, which are an even set and not none.
 def ring_within(web, left):
-    """A ring of some of the ties left, which are an even set and not none."""
     places = [web[1][left[0]][0]]
     row = []
     # A place come to for the first time has a tie to go on by, as an even count of them ends there.
@@ -31,8 +31,8 @@ def ring_within(web, left):
     return (places[-1], tuple(row[begin:]))
 
 
+# For each place a set of ties that leads from it to the least place of its part, all of one forest.
 def ways_home(web):
-    """For each place a set of ties that leads from it to the least place of its part, all of one forest."""
     ways = {}
     for part in parts_of(web):
         ways[part[0]] = ()
@@ -47,8 +47,8 @@ def ways_home(web):
     return ways
 
 
+# The even sets that each tie outside the forest makes with the forest; all others come of these by turns.
 def base_rings(web, ways):
-    """The even sets that each tie outside the forest makes with the forest; all others come of these by turns."""
     base = []
     for number, tie in enumerate(web[1]):
         even = by_turns((number,), by_turns(ways[tie[0]], ways[tie[1]]))
@@ -59,8 +59,8 @@ def base_rings(web, ways):
     return base
 
 
+# Some by turns with each even set that comes of base, rising.
 def all_from(some, base):
-    """Some by turns with each even set that comes of base, rising."""
     found = [some]
     for even in base:
         found = found + [by_turns(other, even) for other in found]

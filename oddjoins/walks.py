@@ -8,15 +8,15 @@ def other_end(tie, place):
     return tie[1] if tie[0] == place else tie[0]
 
 
+# Whether thing is the number of a tie that ends at place.
 def is_step(web, place, thing):
-    """Whether thing is the number of a tie that ends at place."""
     if not is_whole(thing) or thing < 0 or thing >= len(web[1]):
         return False
     return place in web[1][thing][:2]
 
 
+# All places where one is on the walk, one behind the other, start first; refused as walked refuses.
 def places_walked(web, start, row):
-    """All places where one is on the walk, one behind the other, start first; refused as walked refuses."""
     if not isinstance(row, tuple):
         raise NoWalk(-1)
     places = [start]
@@ -32,7 +32,8 @@ def walked(web, start, row):
 
 
 def is_ring(web, thing):
-    if not is_tuple_of(thing, 2) or not is_whole(thing[0]) or thing[0] < 0 or thing[0] >= web[0]:
+    # A start that is no place has no tie to go by: the walk refuses it.
+    if not is_tuple_of(thing, 2) or not is_whole(thing[0]):
         return False
     try:
         places = places_walked(web, thing[0], thing[1])
@@ -41,8 +42,8 @@ def is_ring(web, thing):
     return places[-1] == places[0] and is_simple(places, thing[1])
 
 
+# Whether a closed walk by row has two ties or more, none twice, and no place twice but the start at its end.
 def is_simple(places, row):
-    """Whether a closed walk by row has two ties or more, none twice, and no place twice but the start at its end."""
     # The start stands in the places behind the first once, at the end, unless one comes through it between.
     behind = places[1:]
     return len(row) >= 2 and len(set(row)) == len(row) and len(set(behind)) == len(behind)

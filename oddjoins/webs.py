@@ -32,8 +32,8 @@ def is_set(web, thing):
     return is_rising_below(thing, len(web[1]))
 
 
+# What is in just one of both, rising.
 def by_turns(one, other):
-    """What is in just one of both, rising."""
     return odd_ones(one + other)
 
 
@@ -52,8 +52,8 @@ def cut_of(web, side):
     return tuple([number for number, tie in enumerate(web[1]) if (tie[0] in side) != (tie[1] in side)])
 
 
+# Whether an odd count of told places is in side.
 def is_odd_for(told, side):
-    """Whether an odd count of told places is in side."""
     return len([place for place in side if place in told]) % 2 == 1
 
 

@@ -21,8 +21,8 @@ def read_numbers(text):
     return numbers if is_rising(numbers) else None
 
 
+# The whole number that word writes, None where it writes none.
 def read_whole(word):
-    """The whole number that word writes, None where it writes none."""
     figures = word[1:] if word.startswith("-") else word
     if figures == "" or len(figures) > MOST_FIGURES or not all([sign in FIGURES for sign in figures]):
         return None
@@ -67,8 +67,8 @@ def read_tie(row, line, many):
     return (low, high, price)
 
 
+# The whole number at index of words; a word that is lacking is refused like one that can't stand.
 def whole_word(row, words, index):
-    """The whole number at index of words; a word that is lacking is refused like one that can't stand."""
     number = read_whole(words[index]) if index < len(words) else None
     refuse_unless(number is not None, row, index)
     return number

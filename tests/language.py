@@ -117,9 +117,7 @@ class Look:
         if isinstance(node, (ast.For, ast.While)) and node.orelse:
             self.say("L6", node, "else behind a loop")
         if isinstance(node, ast.Expr) and not isinstance(node.value, ast.Call):
-            owner = self.parents[node]
-            if not isinstance(owner, (ast.FunctionDef, ast.ClassDef)) or owner.body[0] is not node:
-                self.say("L6", node, "a value by itself")
+            self.say("L6", node, "a value by itself")
         if isinstance(node, ast.Raise) and not isinstance(node.exc, ast.Call):
             self.say("L19", node, "raise")
 
@@ -152,7 +150,7 @@ class Look:
         if len(node.bases) > 1 or node.keywords or node.decorator_list or self.parents[node] is not self.tree:
             self.say("L5", node, "class")
         for inner in node.body:
-            if not isinstance(inner, ast.FunctionDef) and not (isinstance(inner, ast.Expr) and inner is node.body[0]):
+            if not isinstance(inner, (ast.FunctionDef, ast.Pass)):
                 self.say("L5", inner, "class body")
         names = [inner.name for inner in node.body if isinstance(inner, ast.FunctionDef)]
         if len(set(names)) != len(names):

@@ -105,3 +105,44 @@ SMALL_WEBS = [
 
 def plain_of(web):
     return (web[0], tuple((a, b, abs(price)) for a, b, price in web[1]))
+
+
+def own_ways(web, one, other):
+    """All ways from one to other, as sets, by going on from place to place."""
+    found = []
+    started = [(one, (one,), ())]
+    while started:
+        place, places, row = started.pop()
+        if place == other:
+            found.append(tuple(sorted(row)))
+            continue
+        for number, (a, b, _) in enumerate(web[1]):
+            if place in (a, b):
+                end = a + b - place
+                if end not in places:
+                    started.append((end, places + (end,), row + (number,)))
+    return found
+
+
+def is_number(thing):
+    return type(thing) is int
+
+
+def own_is_rising(thing, bound):
+    return (type(thing) is tuple and all(is_number(number) and 0 <= number < bound for number in thing)
+            and list(thing) == sorted(set(thing)))
+
+
+def refusal(error, ask, *asked):
+    """(what is told, None), or (None, the fields of the refusal)."""
+    try:
+        return (ask(*asked), None)
+    except error as refused:
+        fields = tuple(vars(refused).values())
+        return (None, fields)
+
+
+# Things in the place of a whole number, of a rising tuple, of any tuple.
+NO_NUMBERS = [None, True, False, "", "1", (), (1,), [1], [], [[]]]
+NO_SIDES = [None, True, False, 0, 1, "", "0", [], [0], (True,), (False,), (0, True), (1, 0), (0, 0), (-1,),
+            (99,), (0, 99), ((0,),), ([0],), (None,), ("0",), (0, None)]

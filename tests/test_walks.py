@@ -117,6 +117,10 @@ class IsRing(unittest.TestCase):
         self.assertIs(is_ring(web, (2, (2, 0, 1))), True)
         self.assertIs(is_ring(web, (0, (0, 1, 3, 4, 5, 2))), False)
         self.assertIs(is_ring(web, (2, (3, 4, 5, 2, 0, 1))), False)
+        web = (3, ((0, 1, 0), (1, 2, 0), (1, 2, 0), (0, 1, 0)))
+        self.assertIs(is_ring(web, (0, (0, 1, 2, 3))), False)
+        self.assertIs(is_ring(web, (1, (1, 2, 3, 0))), False)
+        self.assertIs(is_ring(web, (1, (1, 2))), True)
 
     def test_all_short_rows(self):
         for web in SMALL_WEBS + some_webs(2, 10, places=(2, 4), ties=(0, 5)):
