@@ -30,6 +30,11 @@ def is_rising_below(thing, bound):
     return is_rising(thing) and (len(thing) == 0 or thing[-1] < bound)
 
 
+# Whether no two of numbers are alike.
+def are_unlike(numbers):
+    return len(set(numbers)) == len(numbers)
+
+
 # The numbers that stand in row an odd number of times, rising.
 def odd_ones(row):
     odd = {}

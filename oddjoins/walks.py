@@ -1,7 +1,7 @@
 """Walks along ties, and rings."""
 
 from oddjoins.errors import NoWalk
-from oddjoins.kinds import is_tuple_of, is_whole, odd_ones
+from oddjoins.kinds import are_unlike, is_tuple_of, is_whole, odd_ones
 
 
 def other_end(tie, place):
@@ -31,22 +31,22 @@ def walked(web, start, row):
     return places_walked(web, start, row)[-1]
 
 
-def is_ring(web, thing):
-    # A start that is no place has no tie to go by: the walk refuses it.
+# All places of the closed walk that thing, a pair of a start and a row, is; None where it is none.
+def places_round(web, thing):
+    # A start that is no place has no tie to go by: the walk refuses it, unless its row has no ties.
     if not is_tuple_of(thing, 2) or not is_whole(thing[0]):
-        return False
+        return None
     try:
         places = places_walked(web, thing[0], thing[1])
     except NoWalk:
-        return False
-    return places[-1] == places[0] and is_simple(places, thing[1])
+        return None
+    return places if places[-1] == places[0] else None
 
 
-# Whether a closed walk by row has two ties or more, none twice, and no place twice but the start at its end.
-def is_simple(places, row):
+def is_ring(web, thing):
+    places = places_round(web, thing)
     # The start stands in the places behind the first once, at the end, unless one comes through it between.
-    behind = places[1:]
-    return len(row) >= 2 and len(set(row)) == len(row) and len(set(behind)) == len(behind)
+    return places is not None and len(places) > 2 and are_unlike(thing[1]) and are_unlike(places[1:])
 
 
 def odd_times(row):

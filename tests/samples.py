@@ -47,6 +47,10 @@ def own_turns(one, other):
     return tuple(sorted(set(one) ^ set(other)))
 
 
+def own_below(web):
+    return tuple(k for k, tie in enumerate(web[1]) if tie[2] < 0)
+
+
 def reached(web, place):
     """All places that one comes to from place."""
     found = {place}
@@ -66,6 +70,19 @@ def joins_by_told(web):
     found = {}
     for some in subsets(range(len(web[1]))):
         found.setdefault(own_odds(web, some), []).append(some)
+    return found
+
+
+def least_by_told(web, ins=(), outs=()):
+    """The least price of a join with ins and without outs, by its told places, tie by tie."""
+    found = {(): 0}
+    for number, (a, b, price) in enumerate(web[1]):
+        taken = {own_turns(told, (a, b)): known + price for told, known in found.items()}
+        if number in ins:
+            found = taken
+        elif number not in outs:
+            found = {told: min(known.get(told, least) for known in (found, taken))
+                     for part in (found, taken) for told, least in part.items()}
     return found
 
 

@@ -7,24 +7,11 @@ from oddjoins.errors import NoPaper
 from oddjoins.joinchecker import lets_join
 from oddjoins.walks import is_ring
 
-from tests.samples import (NO_SIDES, ODD_THINGS, SMALL_WEBS, joins_by_told, own_is_rising, own_odds, own_price,
-                           own_turns, refusal, some_webs, subsets)
-from tests.test_joinchecker import own_verdict as own_join_verdict
+from tests.samples import (NO_SIDES, ODD_THINGS, SMALL_WEBS, joins_by_told, own_odds, own_price, refusal, some_webs,
+                           subsets)
+from tests.verdicts import better_verdict, join_verdict
 
 WEBS = SMALL_WEBS + some_webs(51, 40, ties=(0, 7)) + some_webs(52, 20, ties=(4, 7), low=-1, high=1)
-
-
-def own_verdict(web, told, thing):
-    """The fields of the refusal that is due, None where thing is a paper: as the document tells it."""
-    if not (type(thing) is tuple and len(thing) == 3 and thing[0] == "better" and own_is_rising(thing[1], len(web[1]))
-            and own_is_rising(thing[2], len(web[1]))):
-        return ("shape", 0)
-    wrong = own_turns(told, own_odds(web, thing[1]))
-    if wrong:
-        return ("odds", wrong[0])
-    if own_odds(web, thing[2]):
-        return ("even", own_odds(web, thing[2])[0])
-    return None if own_price(web, own_turns(thing[1], thing[2])) < own_price(web, thing[1]) else ("price", 0)
 
 
 def is_one_ring(web, even):
@@ -90,7 +77,7 @@ class LetsBetter(unittest.TestCase):
                 join = source.choice(by_told.get(told, sets) + [source.choice(sets)])
                 even = source.choice(by_told[()] + [source.choice(sets)])
                 thing = ("better", join, even)
-                self.assertEqual(self.ask(told, thing, web), own_verdict(web, told, thing))
+                self.assertEqual(self.ask(told, thing, web), better_verdict(web, told, thing))
 
 
 class Judged(unittest.TestCase):
@@ -105,11 +92,11 @@ class Judged(unittest.TestCase):
                     self.assertEqual(paper[1], join)
                     if own_price(web, join) == least:
                         self.assertEqual(paper[0], "least")
-                        self.assertIsNone(own_join_verdict(web, told, paper))
+                        self.assertIsNone(join_verdict(web, told, paper))
                         self.assertIs(lets_join(web, told, paper), True)
                     else:
                         self.assertEqual(paper[0], "better")
-                        self.assertIsNone(own_verdict(web, told, paper))
+                        self.assertIsNone(better_verdict(web, told, paper))
                         self.assertIs(lets_better(web, told, paper), True)
 
     def test_just_one_of_both_sorts_is_there(self):
@@ -117,7 +104,7 @@ class Judged(unittest.TestCase):
             by_told = joins_by_told(web)
             for told, joins in by_told.items():
                 for join in joins:
-                    better = [even for even in by_told[()] if own_verdict(web, told, ("better", join, even)) is None]
+                    better = [even for even in by_told[()] if better_verdict(web, told, ("better", join, even)) is None]
                     self.assertEqual(judged_join(web, told, join)[0], "better" if better else "least")
 
     def test_at_the_bounds(self):
@@ -126,7 +113,7 @@ class Judged(unittest.TestCase):
                 told = own_odds(web, some)
                 paper = judged_join(web, told, some)
                 self.assertEqual(paper[1], some)
-                own = own_verdict if paper[0] == "better" else own_join_verdict
+                own = better_verdict if paper[0] == "better" else join_verdict
                 self.assertIsNone(own(web, told, paper))
 
     def test_nothing_is_changed_and_told_again(self):
@@ -145,7 +132,7 @@ class BetterRing(unittest.TestCase):
         self.assertIs(type(paper), tuple)
         self.assertIs(type(paper[2]), tuple)
         self.assertEqual(paper[:2], ("better", thing[1]))
-        self.assertIsNone(own_verdict(web, told, paper))
+        self.assertIsNone(better_verdict(web, told, paper))
         self.assertIs(lets_better(web, told, paper), True)
         self.assertTrue(is_one_ring(web, paper[2]), paper)
         return paper
@@ -157,7 +144,7 @@ class BetterRing(unittest.TestCase):
                 for join in joins[::2]:
                     for even in by_told[()]:
                         thing = ("better", join, even)
-                        if own_verdict(web, told, thing) is None:
+                        if better_verdict(web, told, thing) is None:
                             self.right(web, told, thing)
 
     def test_only_one_of_two_rings_makes_it_better(self):

@@ -1,5 +1,4 @@
 import copy
-import itertools
 import random
 import unittest
 
@@ -7,55 +6,11 @@ from oddjoins.errors import NoPaper
 from oddjoins.joinchecker import bound_by, lets_join
 from oddjoins.sharing import join_paper
 
-from tests.samples import (BIG, NO_NUMBERS, NO_SIDES, ODD_THINGS, SMALL_WEBS, is_number, joins_by_told, own_cut,
-                           own_is_rising, own_odds, own_parts, own_price, own_turns, refusal, some_webs, subsets)
+from tests.samples import (BIG, NO_NUMBERS, NO_SIDES, ODD_THINGS, SMALL_WEBS, joins_by_told, own_below, own_cut,
+                           own_odds, own_parts, own_price, own_turns, refusal, some_webs, subsets)
+from tests.verdicts import changed, join_verdict, own_bound, some_row
 
 WEBS = SMALL_WEBS + some_webs(21, 30, ties=(0, 7))
-
-
-def own_below(web):
-    return tuple(k for k, tie in enumerate(web[1]) if tie[2] < 0)
-
-
-def own_is_above(thing):
-    return is_number(thing) and thing > 0
-
-
-def own_bound(web, told, thing):
-    """((number, bottom), None), or (None, the fields that are due): as the document tells it."""
-    if not (type(thing) is tuple and len(thing) == 2 and own_is_above(thing[0]) and type(thing[1]) is tuple):
-        return (None, ("shape", 0))
-    for row in thing[1]:
-        if not (type(row) is tuple and len(row) == 2 and own_is_rising(row[0], web[0]) and own_is_above(row[1])):
-            return (None, ("shape", 0))
-    bottom, rows = thing
-    flipped = own_turns(told, own_odds(web, own_below(web)))
-    for k, (side, _) in enumerate(rows):
-        if len(set(side) & set(flipped)) % 2 == 0:
-            return (None, ("side", k))
-    for n, tie in enumerate(web[1]):
-        if sum(share for side, share in rows if n in own_cut(web, side)) > bottom * abs(tie[2]):
-            return (None, ("tie", n))
-    return ((sum(share for _, share in rows) + bottom * own_price(web, own_below(web)), bottom), None)
-
-
-def own_verdict(web, told, thing):
-    """The fields of the refusal that is due, None where thing is a paper."""
-    if type(thing) is tuple and len(thing) == 4 and thing[0] == "least" and own_is_rising(thing[1], len(web[1])):
-        told_bound, fields = own_bound(web, told, thing[2:])
-        wrong = own_turns(told, own_odds(web, thing[1]))
-        if fields == ("shape", 0):
-            return fields
-        if wrong:
-            return ("odds", wrong[0])
-        if fields is not None:
-            return fields
-        return None if told_bound[0] == told_bound[1] * own_price(web, thing[1]) else ("sum", 0)
-    if type(thing) is tuple and len(thing) == 2 and thing[0] == "none" and own_is_rising(thing[1], web[0]):
-        if own_cut(web, thing[1]):
-            return ("tie", own_cut(web, thing[1])[0])
-        return None if len(set(thing[1]) & set(told)) % 2 else ("side", 0)
-    return ("shape", 0)
 
 
 class Asks(unittest.TestCase):
@@ -158,10 +113,6 @@ class BoundBy(Asks):
                         for join in joins:
                             self.assertGreaterEqual(own_price(web, join) * answer[0][1], answer[0][0])
         self.assertGreater(let, 100)
-
-
-def some_row(source, web):
-    return (source.choice(subsets(range(web[0]))), source.randint(1, 3))
 
 
 class LetsJoin(Asks):
@@ -274,7 +225,7 @@ class LetsJoin(Asks):
                 for _ in range(4):
                     thing = changed(source, web, join_paper(web, told))
                     fields = self.join(told, thing, web)
-                    self.assertEqual(fields, own_verdict(web, told, thing), thing)
+                    self.assertEqual(fields, join_verdict(web, told, thing), thing)
                     seen[fields and fields[0]] = True
                     self.is_so(web, told, thing, fields)
         self.assertEqual(set(seen), {None, "shape", "odds", "side", "tie", "sum"})
@@ -287,33 +238,3 @@ class LetsJoin(Asks):
                 self.assertEqual(joins, [])
             else:
                 self.assertEqual(own_price(web, thing[1]), min(own_price(web, join) for join in joins))
-
-
-def changed(source, web, paper):
-    """The paper with something in it changed, perhaps to a right one."""
-    if paper[0] == "none":
-        return ("none", source.choice([paper[1], source.choice(subsets(range(web[0])))]))
-    word, join, bottom, rows = paper
-    rows = list(rows)
-    choice = source.randrange(8)
-    if choice == 0:
-        join = source.choice(subsets(range(len(web[1]))))
-    elif choice == 1:
-        bottom += source.choice((-2, -1, 1))
-    elif choice == 2:
-        rows.append(some_row(source, web))
-    elif choice == 3 and rows:
-        rows.pop(source.randrange(len(rows)))
-    elif choice == 4 and rows:
-        k = source.randrange(len(rows))
-        rows[k] = (rows[k][0], rows[k][1] + source.choice((-1, 1)))
-    elif choice == 5 and rows:
-        k = source.randrange(len(rows))
-        rows[k] = (own_turns(rows[k][0], (source.randrange(web[0]),)), rows[k][1])
-    elif choice == 6 and rows:
-        k = source.randrange(len(rows))
-        rows[k] = (tuple(place for place in range(web[0]) if place not in rows[k][0]), rows[k][1])
-    else:
-        rows = list(itertools.chain.from_iterable((row, row) for row in rows))
-        bottom *= 2
-    return (word, join, bottom, tuple(rows))

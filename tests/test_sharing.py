@@ -5,7 +5,7 @@ from oddjoins.joinchecker import lets_join
 from oddjoins.sharing import join_paper
 
 from tests.samples import SMALL_WEBS, joins_by_told, own_parts, own_price, some_webs, subsets
-from tests.test_joinchecker import own_verdict
+from tests.verdicts import join_verdict
 
 WEBS = (SMALL_WEBS + some_webs(41, 80) + some_webs(42, 40, low=0, high=9) + some_webs(43, 40, low=-1, high=1)
         + some_webs(44, 10, low=0, high=0) + some_webs(45, 10, low=-3, high=-1))
@@ -29,7 +29,7 @@ class JoinPaper(unittest.TestCase):
         self.assertIs(type(paper), tuple)
         some_odd = any(len(set(part) & set(told)) % 2 for part in own_parts(web))
         self.assertEqual(paper[0], "none" if some_odd else "least")
-        self.assertIsNone(own_verdict(web, told, paper))
+        self.assertIsNone(join_verdict(web, told, paper))
         self.assertIs(lets_join(web, told, paper), True)
         self.assertLessEqual(figures(paper), 20)
         return paper

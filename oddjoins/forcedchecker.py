@@ -1,0 +1,31 @@
+"""The checker of forced papers: least joins with ties that they must have, without such as they mustn't."""
+
+from oddjoins.errors import NoPaper
+from oddjoins.joinchecker import lets_join
+from oddjoins.kinds import is_tuple_of
+from oddjoins.rests import forced_rest
+from oddjoins.webs import is_set
+
+
+def lets_forced(web, told, ins, outs, thing):
+    left = forced_rest(web, told, ins, outs)
+    if is_tuple_of(thing, 2) and thing[0] == "none":
+        return lets_join(left[0], left[2], thing)
+    if is_tuple_of(thing, 4) and thing[0] == "least" and is_set(web, thing[1]):
+        refuse_unforced(ins, outs, thing[1])
+        return lets_join(left[0], left[2], ("least", numbered_within(left[1], thing[1]), thing[2], thing[3]))
+    raise NoPaper("shape", 0)
+
+
+def refuse_unforced(ins, outs, join):
+    for number in ins:
+        if number not in join:
+            raise NoPaper("ins", number)
+    for number in outs:
+        if number in join:
+            raise NoPaper("outs", number)
+
+
+# The ties of join that are among numbers, by where they stand there.
+def numbered_within(numbers, join):
+    return tuple([index for index, number in enumerate(numbers) if number in join])
