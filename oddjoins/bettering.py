@@ -1,5 +1,6 @@
 """Joins that aren't least: papers that make them better, their checker, and rings that do."""
 
+from oddjoins.differences import change_by
 from oddjoins.errors import NoPaper
 from oddjoins.joinchecker import refuse_odds
 from oddjoins.kinds import is_tuple_of
@@ -13,10 +14,6 @@ def is_better_kind(web, thing):
     return is_tuple_of(thing, 3) and thing[0] == "better" and is_set(web, thing[1]) and is_set(web, thing[2])
 
 
-def makes_better(web, join, even):
-    return price_of(web, by_turns(join, even)) < price_of(web, join)
-
-
 def lets_better(web, told, thing):
     if not is_better_kind(web, thing):
         raise NoPaper("shape", 0)
@@ -24,7 +21,7 @@ def lets_better(web, told, thing):
     odds = odds_of(web, thing[2])
     if odds != ():
         raise NoPaper("even", odds[0])
-    if not makes_better(web, thing[1], thing[2]):
+    if change_by(web, thing[1], thing[2]) >= 0:
         raise NoPaper("price", 0)
     return True
 
@@ -40,4 +37,4 @@ def judged_join(web, told, join):
 def better_ring(web, told, thing):
     # The rings have no tie in common, so what they change adds up: one of them at least makes it cheaper.
     evens = [odd_times(ring[1]) for ring in rings_of(web, thing[2])]
-    return ("better", thing[1], [even for even in evens if makes_better(web, thing[1], even)][0])
+    return ("better", thing[1], [even for even in evens if change_by(web, thing[1], even) < 0][0])

@@ -17,6 +17,13 @@ def lets_forced(web, told, ins, outs, thing):
     raise NoPaper("shape", 0)
 
 
+def is_forced_paper(web, told, ins, outs, thing):
+    try:
+        return lets_forced(web, told, ins, outs, thing)
+    except NoPaper:
+        return False
+
+
 def refuse_unforced(ins, outs, join):
     for number in ins:
         if number not in join:

@@ -19,6 +19,9 @@ compile copyright credits delattr dir eval exec exit gc getattr globals hasattr 
 methodcaller os quit setattr super type vars sys format format_map chr print""".split())
 VALUE_NAMES_OUT = set("""items keys values pop update append clear extend insert remove reverse setdefault sort args
 encode format""".split())
+# Names that an object's value may have though values of Python's own have them.
+VALUE_NAMES = set("count index title find get join lower upper split strip copy add".split())
+PYTHONS_OWN = {name for kind in (str, int, list, tuple, dict, set, bytes) for name in dir(kind)}
 STATEMENTS = (ast.Assign, ast.AugAssign, ast.If, ast.While, ast.For, ast.Return, ast.Break, ast.Continue, ast.Pass,
               ast.Raise, ast.Try, ast.Expr, ast.FunctionDef)
 EXPRESSIONS_OUT = (ast.GeneratorExp, ast.SetComp, ast.DictComp, ast.NamedExpr, ast.Starred, ast.Yield, ast.YieldFrom,
@@ -33,11 +36,12 @@ KEYWORDS = {"sorted": {"key", "reverse"}, "min": {"key", "default"}, "max": {"ke
 class Look:
     """One file of the package; said holds (rule, line, words) of each thing that the rules rule out."""
 
-    def __init__(self, package, name, text, error_names):
+    def __init__(self, package, name, text, error_names, own_methods=()):
         self.package = package
         self.name = name
         self.text = text
         self.error_names = error_names
+        self.own_methods = own_methods
         self.said = []
         self.tree = ast.parse(text)
         self.parents = {}
@@ -204,7 +208,9 @@ class Look:
         self.look_at_word(node, node.attr)
         owner = self.parents[node]
         called = isinstance(owner, ast.Call) and owner.func is node
-        if called and node.attr not in METHODS and node.attr not in DUNDERS:
+        if called and node.attr not in METHODS | DUNDERS | set(self.own_methods):
+            self.say("L25", node, node.attr)
+        if not called and node.attr in METHODS | set(self.own_methods) and isinstance(node.ctx, ast.Load):
             self.say("L25", node, node.attr)
         if not called and node.attr in VALUE_NAMES_OUT:
             self.say("L26", node, node.attr)
@@ -261,6 +267,21 @@ class Look:
         for handler in node.handlers:
             if not isinstance(handler.type, ast.Name) or handler.type.id not in self.error_names:
                 self.say("L19", handler, "taken")
+
+
+def methods_of(tree):
+    return {inner.name for node in ast.walk(tree) if isinstance(node, ast.ClassDef)
+            for inner in node.body if isinstance(inner, ast.FunctionDef)} - DUNDERS
+
+
+def values_of(tree):
+    return {node.attr for node in ast.walk(tree) if isinstance(node, ast.Attribute) and isinstance(node.ctx, ast.Store)}
+
+
+def names_out(methods, values):
+    """The own methods and values whose names L18 or L26 rule out."""
+    return sorted((methods & values) | ((methods & PYTHONS_OWN) - METHODS - {"add", "discard"})
+                  | ((values & PYTHONS_OWN) - VALUE_NAMES) | (values & VALUE_NAMES_OUT))
 
 
 def is_plain(node):

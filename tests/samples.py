@@ -86,6 +86,15 @@ def least_by_told(web, ins=(), outs=()):
     return found
 
 
+def prices_by_told(web):
+    """The prices of all joins, rising, by their told places, tie by tie."""
+    found = {(): [0]}
+    for a, b, price in web[1]:
+        taken = {own_turns(told, (a, b)): [known + price for known in prices] for told, prices in found.items()}
+        found = {told: found.get(told, []) + taken.get(told, []) for told in list(found) + list(taken)}
+    return {told: sorted(prices) for told, prices in found.items()}
+
+
 def some_web(source, places, ties, low, high):
     many = source.randint(*places)
     count = source.randint(*ties) if many > 1 else 0
@@ -122,6 +131,12 @@ SMALL_WEBS = [
 
 def plain_of(web):
     return (web[0], tuple((a, b, abs(price)) for a, b, price in web[1]))
+
+
+def priced(web, number, price):
+    """The web with another price of one tie."""
+    a, b, _ = web[1][number]
+    return (web[0], web[1][:number] + ((a, b, price),) + web[1][number + 1:])
 
 
 def own_ways(web, one, other):

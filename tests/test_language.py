@@ -5,10 +5,12 @@ import unittest
 
 import oddjoins
 
-from tests.language import Look, draws_in_a_circle
+from tests.language import Look, draws_in_a_circle, methods_of, names_out, values_of
 
 FOLDER = pathlib.Path(oddjoins.__file__).parent
 FILES = {path.stem: path.read_text(encoding="utf-8") for path in sorted(FOLDER.glob("*.py"))}
+METHODS = {name for text in FILES.values() for name in methods_of(ast.parse(text))}
+VALUES = {name for text in FILES.values() for name in values_of(ast.parse(text))}
 ERRORS = [node.name for node in ast.parse(FILES["errors"]).body if isinstance(node, ast.ClassDef)]
 
 RULED_OUT = [
@@ -43,7 +45,11 @@ class Language(unittest.TestCase):
 
     def test_each_file_keeps_to_the_rules(self):
         for name, text in FILES.items():
-            self.assertEqual(Look("oddjoins", name, text, ERRORS).look(), [])
+            self.assertEqual(Look("oddjoins", name, text, ERRORS, METHODS).look(), [])
+
+    def test_methods_and_values_have_names_of_their_own(self):
+        self.assertEqual(names_out(METHODS, VALUES), [])
+        self.assertEqual(names_out({"say", "sort", "get"}, {"word", "say", "items", "count"}), ["items", "say", "sort"])
 
     def test_imports_come_from_the_very_file_and_never_in_a_circle(self):
         draws = {}

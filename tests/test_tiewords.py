@@ -4,7 +4,7 @@ import unittest
 from oddjoins.tiechecker import lets_tie
 from oddjoins.tiewords import slack_of, tie_paper
 
-from tests.samples import SMALL_WEBS, joins_by_told, least_by_told, own_price, some_webs, subsets
+from tests.samples import SMALL_WEBS, joins_by_told, least_by_told, own_price, priced, some_webs, subsets
 from tests.test_tiechecker import WEB, own_word
 from tests.verdicts import tie_verdict
 
@@ -12,11 +12,6 @@ WEBS = SMALL_WEBS + some_webs(121, 30, ties=(1, 8)) + some_webs(122, 20, places=
 FULL = (some_webs(123, 3, places=(9, 9), ties=(16, 16), low=-99, high=99)
         + some_webs(124, 2, places=(6, 9), ties=(16, 16), low=-1, high=1))
 OPPOSITE = {"always": "never", "never": "always"}
-
-
-def priced(web, number, price):
-    a, b, _ = web[1][number]
-    return (web[0], web[1][:number] + ((a, b, price),) + web[1][number + 1:])
 
 
 def least_ones(web, joins):

@@ -135,6 +135,55 @@ def tie_verdict(web, told, number, thing):
     return fields
 
 
+def only_verdict(web, told, join, thing):
+    if not own_is_tuple(thing, 2):
+        return ("shape", 0)
+    if thing[0] == "only" and own_is_tuple(thing[1], len(web[1])):
+        for k, paper in enumerate(thing[1]):
+            ins, outs = ((), (k,)) if k in join else ((k,), ())
+            if forced_verdict(web, told, ins, outs, paper) is not None:
+                return ("paper", k)
+            if paper[0] == "least" and own_price(web, paper[1]) <= own_price(web, join):
+                return ("paper", k)
+        return None
+    if thing[0] == "other" and own_is_rising(thing[1], len(web[1])) and thing[1]:
+        if own_odds(web, thing[1]):
+            return ("even", 0)
+        return None if own_price(web, own_turns(join, thing[1])) <= own_price(web, join) else ("price", 0)
+    return ("shape", 0)
+
+
+def nodes_right(web, told, count, joins, tree, ins, outs):
+    """Of each split, join and rest, as it is gone through, whether it is as told; ended by one that isn't."""
+    right = False
+    if own_is_tuple(tree, 4) and tree[0] == "split" and is_number(tree[1]):
+        right = 0 <= tree[1] < len(web[1]) and tree[1] not in ins + outs
+    elif own_is_tuple(tree, 2) and tree[0] == "join" and is_number(tree[1]) and 0 <= tree[1] < len(joins):
+        right = set(ins + outs) == set(range(len(web[1]))) and joins[tree[1]] == ins
+    elif own_is_tuple(tree, 2) and tree[0] == "rest" and forced_verdict(web, told, ins, outs, tree[1]) is None:
+        right = tree[1][0] == "none" or (len(joins) == count
+                                         and own_price(web, tree[1][1]) >= own_price(web, joins[-1]))
+    yield right
+    if right and tree[0] == "split":
+        yield from nodes_right(web, told, count, joins, tree[2], own_turns(ins, (tree[1],)), outs)
+        yield from nodes_right(web, told, count, joins, tree[3], ins, own_turns(outs, (tree[1],)))
+
+
+def ranked_verdict(web, told, count, thing):
+    if not (own_is_tuple(thing, 2) and type(thing[0]) is tuple and len(thing[0]) <= count
+            and all(own_is_rising(join, len(web[1])) for join in thing[0])):
+        return ("shape", 0)
+    joins = thing[0]
+    for k, join in enumerate(joins):
+        if (own_odds(web, join) != told or join in joins[:k]
+                or any(own_price(web, join) < own_price(web, other) for other in joins[:k][-1:])):
+            return ("join", k)
+    for n, right in enumerate(nodes_right(web, told, count, joins, thing[1], (), ())):
+        if not right:
+            return ("tree", n)
+    return None
+
+
 class Asked(unittest.TestCase):
     """Asks checkers: what they tell is True, or a refusal's fields; what they look at stays as it was."""
 
