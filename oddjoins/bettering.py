@@ -1,7 +1,7 @@
 """Joins that aren't least: papers that make them better, their checker, and rings that do."""
 
 from oddjoins.differences import change_by
-from oddjoins.errors import NoPaper
+from oddjoins.errors import NoPaper, refuse_some
 from oddjoins.joinchecker import refuse_odds
 from oddjoins.kinds import is_tuple_of
 from oddjoins.rings import rings_of
@@ -18,9 +18,7 @@ def lets_better(web, told, thing):
     if not is_better_kind(web, thing):
         raise NoPaper("shape", 0)
     refuse_odds(web, told, thing[1])
-    odds = odds_of(web, thing[2])
-    if odds != ():
-        raise NoPaper("even", odds[0])
+    refuse_some("even", odds_of(web, thing[2]))
     if change_by(web, thing[1], thing[2]) >= 0:
         raise NoPaper("price", 0)
     return True

@@ -48,3 +48,9 @@ class TooMany(JoinError):
 class NoLine(JoinError):
     def __init__(self, line):
         self.line = line
+
+
+# Refuses a paper by the first of numbers, where there are some.
+def refuse_some(word, numbers):
+    if len(numbers) > 0:
+        raise NoPaper(word, numbers[0])

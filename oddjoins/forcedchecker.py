@@ -1,6 +1,6 @@
 """The checker of forced papers: least joins with ties that they must have, without such as they mustn't."""
 
-from oddjoins.errors import NoPaper
+from oddjoins.errors import NoPaper, refuse_some
 from oddjoins.joinchecker import lets_join
 from oddjoins.kinds import is_tuple_of
 from oddjoins.rests import forced_rest
@@ -25,12 +25,8 @@ def is_forced_paper(web, told, ins, outs, thing):
 
 
 def refuse_unforced(ins, outs, join):
-    for number in ins:
-        if number not in join:
-            raise NoPaper("ins", number)
-    for number in outs:
-        if number in join:
-            raise NoPaper("outs", number)
+    refuse_some("ins", [number for number in ins if number not in join])
+    refuse_some("outs", [number for number in outs if number in join])
 
 
 # The ties of join that are among numbers, by where they stand there.

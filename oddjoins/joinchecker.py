@@ -1,9 +1,8 @@
 """The checker of papers of joins. It seeks nothing: what it lets by is so, whoever wrote it."""
 
-from oddjoins.errors import NoPaper
+from oddjoins.errors import NoPaper, refuse_some
 from oddjoins.kinds import is_tuple_of, is_whole_from
 from oddjoins.turning import below, turned, turned_told
-from oddjoins.waychecker import refuse_cut
 from oddjoins.webs import by_turns, cut_of, is_odd_for, is_set, is_side, odds_of, price_of
 
 
@@ -22,32 +21,37 @@ def bound_by(web, told, thing):
         raise NoPaper("shape", 0)
     bottom = thing[0]
     rows = thing[1]
-    refuse_even_sides(turned_told(web, told), rows)
-    refuse_heavy_ties(turned(web), bottom, rows)
-    return (sum([row[1] for row in rows]) + bottom * price_of(web, below(web)), bottom)
+    refuse_some("side", even_rows(turned_told(web, told), rows))
+    refuse_some("tie", heavy_ties(turned(web), bottom, cut_rows(web, rows)))
+    return (share_sum(rows) + bottom * price_of(web, below(web)), bottom)
 
 
-def refuse_even_sides(told, rows):
-    for index, row in enumerate(rows):
-        if not is_odd_for(told, row[0]):
-            raise NoPaper("side", index)
+def share_sum(rows):
+    return sum([row[1] for row in rows])
 
 
-def refuse_heavy_ties(web, bottom, rows):
+# Which rows, by where they stand, have a side that isn't odd for told.
+def even_rows(told, rows):
+    return [index for index, row in enumerate(rows) if not is_odd_for(told, row[0])]
+
+
+# The rows with their sides' cuts in the place of the sides.
+def cut_rows(web, rows):
+    return [(cut_of(web, row[0]), row[1]) for row in rows]
+
+
+# The ties on which the shares of rows, each a set and a share, come to more than bottom times the price.
+def heavy_ties(web, bottom, rows):
     loads = [0] * len(web[1])
     for row in rows:
-        for number in cut_of(web, row[0]):
+        for number in row[0]:
             loads[number] += row[1]
-    for number, tie in enumerate(web[1]):
-        if loads[number] > bottom * tie[2]:
-            raise NoPaper("tie", number)
+    return [number for number, tie in enumerate(web[1]) if loads[number] > bottom * tie[2]]
 
 
 # Refuses what is no join for told, by the least place at which it isn't.
 def refuse_odds(web, told, join):
-    wrong = by_turns(told, odds_of(web, join))
-    if wrong != ():
-        raise NoPaper("odds", wrong[0])
+    refuse_some("odds", by_turns(told, odds_of(web, join)))
 
 
 def is_least_kind(web, thing):
@@ -73,7 +77,7 @@ def lets_least(web, told, join, bound):
 
 
 def lets_none(web, told, side):
-    refuse_cut(web, side)
+    refuse_some("tie", cut_of(web, side))
     if not is_odd_for(told, side):
         raise NoPaper("side", 0)
     return True

@@ -4,7 +4,7 @@ from oddjoins.bettering import judged_join
 from oddjoins.errors import NoTie
 from oddjoins.pairing import least_join
 from oddjoins.sharing import join_paper
-from oddjoins.webs import by_turns, is_set
+from oddjoins.webs import by_turns, is_tie_number
 
 
 # Holds a web, told places and a least join for these, or None where there is none.
@@ -15,7 +15,7 @@ class Keeper:
         self.held = least_join(web, told)
 
     def set_price(self, number, price):
-        if not is_set(self.web, (number,)):
+        if not is_tie_number(self.web, number):
             raise NoTie(number)
         self.web = priced_web(self.web, number, price)
         return self.hold_anew()

@@ -6,7 +6,7 @@ A branch of the tree is (tree, ins, outs): the tree speaks of the joins with all
 from oddjoins.errors import NoPaper
 from oddjoins.forcedchecker import is_forced_paper
 from oddjoins.kinds import is_tuple_of, is_whole_from
-from oddjoins.webs import by_turns, is_set, odds_of, price_of
+from oddjoins.webs import by_turns, is_set, is_tie_number, odds_of, price_of
 
 
 def lets_ranked(web, told, count, thing):
@@ -46,7 +46,7 @@ def refuse_tree(web, told, count, joins, tree):
 
 def is_split(web, branch):
     tree = branch[0]
-    if not is_tuple_of(tree, 4) or tree[0] != "split" or not is_set(web, (tree[1],)):
+    if not is_tuple_of(tree, 4) or tree[0] != "split" or not is_tie_number(web, tree[1]):
         return False
     return tree[1] not in branch[1] and tree[1] not in branch[2]
 

@@ -2,6 +2,7 @@
 
 from oddjoins.errors import NoWalk
 from oddjoins.kinds import are_unlike, is_tuple_of, is_whole, odd_ones
+from oddjoins.webs import is_tie_number
 
 
 def other_end(tie, place):
@@ -10,9 +11,7 @@ def other_end(tie, place):
 
 # Whether thing is the number of a tie that ends at place.
 def is_step(web, place, thing):
-    if not is_whole(thing) or thing < 0 or thing >= len(web[1]):
-        return False
-    return place in web[1][thing][:2]
+    return is_tie_number(web, thing) and place in web[1][thing][:2]
 
 
 # All places where one is on the walk, one behind the other, start first; refused as walked refuses.

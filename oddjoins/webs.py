@@ -6,18 +6,23 @@ MOST_PLACES = 60
 MOST_TIES = 200
 
 
+def is_tie_kind(thing):
+    return is_tuple_of(thing, 3) and all([is_whole(part) for part in thing])
+
+
 def is_tie(many, thing):
-    if not is_tuple_of(thing, 3) or not all([is_whole(part) for part in thing]):
+    return is_tie_kind(thing) and thing[0] >= 0 and thing[0] < thing[1] and thing[1] < many
+
+
+# Whether thing is a number from 1 to most_places and a tuple of at most most_ties things, whatever these are.
+def is_web_kind(thing, most_places, most_ties):
+    if not is_tuple_of(thing, 2) or not is_whole(thing[0]) or not isinstance(thing[1], tuple):
         return False
-    return thing[0] >= 0 and thing[0] < thing[1] and thing[1] < many
+    return thing[0] >= 1 and thing[0] <= most_places and len(thing[1]) <= most_ties
 
 
 def is_web(thing):
-    if not is_tuple_of(thing, 2) or not is_whole(thing[0]) or not isinstance(thing[1], tuple):
-        return False
-    if thing[0] < 1 or thing[0] > MOST_PLACES or len(thing[1]) > MOST_TIES:
-        return False
-    return all([is_tie(thing[0], tie) for tie in thing[1]])
+    return is_web_kind(thing, MOST_PLACES, MOST_TIES) and all([is_tie(thing[0], tie) for tie in thing[1]])
 
 
 def is_side(web, thing):
@@ -32,9 +37,17 @@ def is_set(web, thing):
     return is_rising_below(thing, len(web[1]))
 
 
+def is_tie_number(web, thing):
+    return is_set(web, (thing,))
+
+
 # What is in just one of both, rising.
 def by_turns(one, other):
     return odd_ones(one + other)
+
+
+def all_ties(web):
+    return tuple(range(len(web[1])))
 
 
 def odds_of(web, some):
