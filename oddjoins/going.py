@@ -1,7 +1,7 @@
 """Going over ties, each as often as told: how often and at what price, and rows that go just so often."""
 
 from oddjoins.walks import other_end
-from oddjoins.webs import by_turns, odds_of, parts_of
+from oddjoins.webs import by_turns, odds_of, parts_of, ties_at
 
 
 def gone_counts(web, row):
@@ -71,7 +71,7 @@ def steps_both_ways(web):
 
 
 def steps_at(web, place):
-    return [(number, other_end(tie, place)) for number, tie in enumerate(web[1]) if place in tie[:2]]
+    return [(number, other_end(web[1][number], place)) for number in ties_at(web, place)]
 
 
 # A row of just these counts from start, along steps; there has to be one.

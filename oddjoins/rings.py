@@ -49,14 +49,8 @@ def ways_home(web):
 
 # The even sets that each tie outside the forest makes with the forest; all others come of these by turns.
 def base_rings(web, ways):
-    base = []
-    for number, tie in enumerate(web[1]):
-        even = by_turns((number,), by_turns(ways[tie[0]], ways[tie[1]]))
-        if even != ():
-            base.append(even)
-    if len(base) > MOST_BASE_RINGS:
-        raise TooMany("sets")
-    return base
+    evens = [by_turns((number,), by_turns(ways[tie[0]], ways[tie[1]])) for number, tie in enumerate(web[1])]
+    return [even for even in evens if even != ()]
 
 
 # Some by turns with each even set that comes of base, rising.
@@ -74,6 +68,8 @@ def all_evens(web):
 def all_joins(web, told):
     ways = ways_home(web)
     base = base_rings(web, ways)
+    if len(base) > MOST_BASE_RINGS:
+        raise TooMany("sets")
     join = ()
     for place in told:
         join = by_turns(join, ways[place])

@@ -65,6 +65,11 @@ def cut_of(web, side):
     return tuple([number for number, tie in enumerate(web[1]) if (tie[0] in side) != (tie[1] in side)])
 
 
+# The numbers of the ties that end at place, rising.
+def ties_at(web, place):
+    return [number for number, tie in enumerate(web[1]) if place in tie[:2]]
+
+
 # Whether an odd count of told places is in side.
 def is_odd_for(told, side):
     return len([place for place in side if place in told]) % 2 == 1
